@@ -1,0 +1,1 @@
+"""Ringbound: drivers, devices and a guard of addresses."""
