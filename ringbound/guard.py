@@ -10,7 +10,7 @@ RIGHTS = ("r", "w")
 
 
 def is_word(value):
-    """True if the value is what a table word may be: None, or a tuple (frame, right)."""
+    """True if a table word may be so: None, or a tuple (frame, right) with a frame that exists."""
     if value is None:
         return True
     if type(value) is not tuple or len(value) != 2:

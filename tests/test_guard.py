@@ -6,6 +6,13 @@ from ringbound import guard
 from ringbound.guard import Guard, is_word
 
 
+class Equal:
+    """Equal to everything."""
+
+    def __eq__(self, other):
+        return True
+
+
 class Words(unittest.TestCase):
     def test_numbers(self):
         self.assertEqual((guard.DEVICES, guard.PAGES, guard.FRAMES, guard.CELLS), (2, 6, 6, 4))
@@ -32,6 +39,8 @@ class Words(unittest.TestCase):
         for value in ([0, "r"], [], {}, {0: "r"}, {0, "r"}, "0r", "r", "", b"r", 0, 1, -1, 0.5, True, False, object):
             self.assertIs(is_word(value), False, value)
         self.assertIs(is_word(("r", 0)), False)
+        for value in (Equal(), (0, Equal()), (Equal(), "r")):
+            self.assertIs(is_word(value), False)
 
 
 class Uses(unittest.TestCase):

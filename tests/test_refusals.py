@@ -23,6 +23,13 @@ NO_INTEGERS = (None, "0", "", (0,), (), [0], {}, 0.0, b"0", True, False)
 NO_VALUES = (True, False, 0.5, b"a", [], [1], {}, {1: 2}, {1}, object(), int, 1j)
 
 
+class Equal:
+    """Equal to everything, and of none of the told kinds."""
+
+    def __eq__(self, other):
+        return True
+
+
 def nested(part):
     """The part in places within tuples."""
     return [part, (part,), (1, "a", part), (None, ((), (part, 2)))]
@@ -81,6 +88,13 @@ class Refusals(unittest.TestCase):
         actors += [{"driver": 0}, {"driver", 0}]
         for actor in actors:
             self.refuse(actor, *[request for request, roles in RIGHT])
+
+    def test_what_only_looks_equal(self):
+        self.refuse((Equal(), 0), *[request for request, roles in RIGHT])
+        self.refuse(("driver", Equal()), ("journal",))
+        self.refuse(Equal(), ("journal",))
+        self.refuse(("driver", 0), (Equal(),), ("read", Equal()), ("write", table_word(0, 2), (Equal(), "r")))
+        self.refuse(("driver", 0), ("write", table_word(0, 2), (0, Equal())), ("write", doorbell(0), Equal()))
 
     def test_requests_with_too_few_or_too_many_parts(self):
         for request, roles in RIGHT:
