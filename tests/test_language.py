@@ -18,6 +18,13 @@ INTERFACE = {
         "Memory.access(self, actor, request)", "Memory.peek(self, cell)", "Memory.block(self, device, block)",
         "Memory.journal(self, device)", "Memory.log(self)",
     ),
+    "rings.py": (
+        "SLOTS", "TAGS", "SUBMISSIONS", "COMPLETIONS", "buffer_page(tag)", "slot_of(number)", "phase_of(number)",
+        "descriptor(tag, kind, block, sequence)", "completion(tag, number)", "is_new_descriptor(value, number)",
+        "is_new_completion(value, number)",
+    ),
+    "requests.py": ("is_request(value)", "new_table()", "answer_of(table, request)", "after_request(table, request)"),
+    "device.py": ("Device.__init__(self, memory, device)", "Device.step(self, choice)", "Device.jobs(self)"),
 }
 OUTSIDE = {"heapq", "math", "itertools", "collections", "__future__"}
 BARRED = {
