@@ -11,6 +11,7 @@ COMPLETIONS = 1
 FIRST_BUFFER = 2
 KINDS = ("read", "write")
 DONE = "done"
+PHASES = 2
 
 
 def buffer_page(tag):
@@ -72,11 +73,14 @@ def is_new_descriptor(value, number):
     return has_phase(phase, number) and sequence == number
 
 
-def is_new_completion(value, number):
-    """True if the value is a completion that can be the entry with this number."""
+def is_completion(value):
+    """True if the value is of the form of a completion, whatever its phase."""
     if type(value) is not tuple or len(value) != 3:
         return False
     tag, word, phase = value
-    if not is_tag(tag) or type(word) is not str:
-        return False
-    return word == DONE and has_phase(phase, number)
+    return is_tag(tag) and type(word) is str and word == DONE and is_number(phase, PHASES)
+
+
+def is_new_completion(value, number):
+    """True if the value is a completion that can be the entry with this number."""
+    return is_completion(value) and value[2] == phase_of(number)

@@ -25,6 +25,16 @@ INTERFACE = {
     ),
     "requests.py": ("is_request(value)", "new_table()", "answer_of(table, request)", "after_request(table, request)"),
     "device.py": ("Device.__init__(self, memory, device)", "Device.step(self, choice)", "Device.jobs(self)"),
+    "driver.py": (
+        "Driver.__init__(self, memory, device, requests, without)", "Driver.step(self)", "Driver.rows(self)",
+        "Driver.under_way(self)", "Driver.free_frames(self)", "Driver.is_done(self)",
+    ),
+    "world.py": (
+        "World.__init__(self, requests, without)", "World.play(self, acts)", "World.settle(self, rounds)",
+        "World.is_liar(self, d)",
+    ),
+    "judge.py": ("lendings(log)", "log_fault(log)", "row_fault(rows, log, device)", "moment_fault(rows, log, device)"),
+    "needed.py": ("fault_of(world)", "breaking(place)"),
 }
 OUTSIDE = {"heapq", "math", "itertools", "collections", "__future__"}
 BARRED = {
